@@ -1,0 +1,1 @@
+"""Keptlast: forms whose fields are worked out from one another."""

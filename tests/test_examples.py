@@ -1,0 +1,52 @@
+"""The examples of the document, word for word."""
+
+import doctest
+from pathlib import Path
+
+from keptlast.amounts import Amount
+from keptlast.rules import Loose, Product, Rule, Total
+from support import Case
+
+README = Path(__file__).resolve().parent.parent / "README.md"
+STAGE_1 = """
+>>> from keptlast.amounts import Amount
+>>> from keptlast.rules import Product, Rule, Total
+>>> [Amount(6, -4), 2 * Amount(1, 3) - 1, str(Amount(7, 2).over(7)), Amount(1, 3) < 1]
+[Amount(-3, 2), Amount(-1, 3), '1/2', True]
+>>> [Amount(-7, 2) // 2, Amount(-7, 2) % 2, 1 // Amount(2, 7), Amount(2, 3) ** 3, Amount(-1, 3).rounded(2)]
+[-2, Amount(1, 2), 3, Amount(8, 27), '-0.34']
+>>> adding, sharing = Total({"net": 1, "tax": 1, "gross": -1}), Product(["net", "rate"], ["tax"])
+>>> [adding.text(), sharing.text(), Product(["a"], ["b"], 2, ways=["b"]).text(), Total({"a": -2}, 5).text()]
+['sum -gross + net + tax = 0', 'product net rate = 1 tax', 'product a = 2 b by b', 'sum -2 a = 5']
+>>> [sharing.worked_out("rate", {"net": 100, "tax": 20}), adding.worked_out("gross", {"net": 100, "tax": 20})]
+[Amount(1, 5), Amount(120, 1)]
+>>> [Rule.read("product 1 = 3 a").left, Rule.read("sum a + 2 b = 7/2 by b").ways, Product(["b", "a"], [], 5).text()]
+[(), ('b',), 'product a b = 5']
+"""
+
+
+class TestExamples(Case):
+    def assert_examples(self, text, many):
+        told = []
+        test = doctest.DocTestParser().get_doctest(text, {}, "examples", None, 0)
+        result = doctest.DocTestRunner(verbose=False).run(test, out=told.append)
+        self.assertEqual((result.attempted, result.failed), (many, 0), "".join(told))
+
+    def test_stage_1(self):
+        self.assert_examples(STAGE_1, 8)
+
+    def test_readme(self):
+        self.assert_examples(README.read_text(encoding="utf-8"), 10)
+
+    def test_texts_of_point_13(self):
+        adding = Total({"net": 1, "tax": 1, "gross": -1})
+        self.assert_same(adding.text(), "sum -gross + net + tax = 0")
+        sharing = Product(["net", "rate"], ["tax"], ways=["tax"])
+        self.assert_same(sharing.text(), "product net rate = 1 tax by tax")
+        self.assertEqual([Rule.read(adding.text()), Rule.read(sharing.text())], [adding, sharing])
+
+    def test_words_of_the_interface(self):
+        self.assert_same(repr(Amount(-7, 2)), "Amount(-7, 2)")
+        self.assert_same([Amount(-1, 3).rounded(2), Amount(2).rounded(2), Amount(3).rounded(0)], ["-0.34", "2.00", "3"])
+        self.assert_same(Amount(0) ** 0, Amount(1))
+        self.assert_same(repr(Loose(["b", "a"])), "Rule('loose a b')")

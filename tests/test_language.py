@@ -1,0 +1,205 @@
+"""Holds each file of the package against what can be counted of the rules for its language."""
+
+import ast
+import builtins
+import unittest
+from pathlib import Path
+
+PACKAGE = Path(__file__).resolve().parent.parent / "keptlast"
+FILES = sorted(path for path in PACKAGE.rglob("*") if "__pycache__" not in path.parts)
+LIBRARY = {
+    "heapq": {"heappush", "heappop", "heapify", "heapreplace", "heappushpop"},
+    "math": {"gcd", "lcm", "isqrt", "comb", "perm", "factorial"},
+    "itertools": {"product", "combinations", "permutations"},
+}
+BUILTINS = set(
+    "len range enumerate zip min max sum abs sorted reversed int str bool bytes list tuple dict set frozenset isinstance "
+    "ord repr any all divmod iter next map property staticmethod classmethod super object Exception ValueError TypeError "
+    "KeyError IndexError LookupError ZeroDivisionError ArithmeticError OverflowError RuntimeError NotImplementedError "
+    "AttributeError StopIteration NotImplemented".split())
+OPERATORS = set("add sub mul floordiv mod and or xor lshift rshift".split())
+DUNDERS = {f"__{name}__" for name in [
+    *"init eq repr str len enter exit call iter lt le gt ge ne pow ipow neg pos invert abs bool contains getitem".split(),
+    *"setitem".split(), *OPERATORS, *[f"r{name}" for name in OPERATORS], *[f"i{name}" for name in OPERATORS]]}
+METHODS = set(
+    "append clear copy count endswith extend find get index insert isalnum isalpha isdigit islower isspace isupper items "
+    "join keys ljust lower lstrip partition pop remove replace reverse rfind rjust rpartition rsplit rstrip setdefault split "
+    "splitlines startswith strip update upper values zfill bit_length title capitalize swapcase casefold center expandtabs "
+    "removeprefix removesuffix rindex isascii isdecimal isnumeric istitle isidentifier isprintable".split())
+NAMES_NOT_USED = set(
+    "register mro elements open input law version_info with_traceback add_note attrgetter breakpoint builtins compile "
+    "copyright credits delattr dir eval exec exit gc getattr globals hasattr help id importlib license locals methodcaller os "
+    "quit setattr type vars sys format format_map".split())
+# Python's console, and doctest with it, may keep its last answer among the builtins.
+ALL_BUILTINS = set(vars(builtins)) - {"_", "__init__"}
+BARRED_NODES = (
+    ast.Global, ast.AsyncFunctionDef, ast.AsyncFor, ast.AsyncWith, ast.Await, ast.AnnAssign, ast.Set, ast.SetComp, ast.Div,
+    ast.MatMult, ast.GeneratorExp)
+
+
+def trees():
+    for path in FILES:
+        if path.suffix == ".py":
+            yield path, ast.parse(path.read_text(encoding="utf-8"))
+
+
+def defined_names():
+    """The names of all functions, methods, classes and private attributes of the package."""
+    found = set()
+    for _, tree in trees():
+        for node in ast.walk(tree):
+            if isinstance(node, (ast.FunctionDef, ast.ClassDef)):
+                found.add(node.name)
+            if isinstance(node, ast.Attribute) and isinstance(node.ctx, ast.Store):
+                found.add(node.attr)
+    return found
+
+
+class TestLanguage(unittest.TestCase):
+    def each_node(self, *kinds):
+        for path, tree in trees():
+            for node in ast.walk(tree):
+                if isinstance(node, kinds):
+                    yield f"{path.name}:{getattr(node, 'lineno', 0)}", node
+
+    def assert_none(self, wrong):
+        self.assertEqual(list(wrong), [])
+
+    def test_files(self):
+        for path in FILES:
+            if path.is_file():
+                self.assertRegex(path.name, r"\A[a-z0-9_]+\.py\Z")
+            self.assertNotIn(path.stem, ALL_BUILTINS)
+        self.assertLessEqual(len(FILES), 100)
+
+    def test_sizes_and_characters(self):
+        for path, tree in trees():
+            text = path.read_text(encoding="utf-8")
+            lines = text.split("\n")
+            self.assertLessEqual(len(lines), 400, path)
+            self.assertLessEqual(max(map(len, lines)), 120, path)
+            self.assertTrue(all(sign == "\n" or " " <= sign <= "~" for sign in text), path)
+            for node in ast.walk(tree):
+                if isinstance(node, ast.FunctionDef):
+                    self.assertLessEqual(node.end_lineno - node.lineno + 1, 40, f"{path.name} {node.name}")
+
+    def test_imports(self):
+        self.assert_none(self.each_node(ast.Import))
+        for at, node in self.each_node(ast.ImportFrom):
+            names = {alias.name for alias in node.names}
+            if node.module in LIBRARY:
+                self.assertLessEqual(names, LIBRARY[node.module], at)
+                self.assertTrue(all(alias.asname is None for alias in node.names), at)
+            else:
+                self.assertRegex(node.module, r"\Akeptlast\.[a-z_]+\Z", at)
+                path = PACKAGE / f"{node.module.partition('.')[2]}.py"
+                self.assertLessEqual(names, set(self.names_bound_in(ast.parse(path.read_text()))), at)
+
+    def names_bound_in(self, tree):
+        for node in tree.body:
+            if isinstance(node, (ast.FunctionDef, ast.ClassDef)):
+                yield node.name
+            if isinstance(node, ast.Assign):
+                yield node.targets[0].id
+
+    def test_no_imports_in_a_circle(self):
+        imported = {path.stem: set() for path, _ in trees()}
+        for path, tree in trees():
+            for node in ast.walk(tree):
+                if isinstance(node, ast.ImportFrom) and node.module.startswith("keptlast."):
+                    imported[path.stem].add(node.module.partition(".")[2])
+        while imported:
+            ready = [name for name, needed in imported.items() if not needed & set(imported)]
+            self.assertTrue(ready, imported)
+            for name in ready:
+                del imported[name]
+
+    def test_module_level(self):
+        for path, tree in trees():
+            bound = []
+            for at, node in enumerate(tree.body):
+                docstring = at == 0 and isinstance(node, ast.Expr)
+                allowed = (ast.ImportFrom, ast.FunctionDef, ast.ClassDef, ast.Assign)
+                self.assertTrue(docstring or isinstance(node, allowed), f"{path.name}:{node.lineno}")
+                if isinstance(node, ast.ImportFrom):
+                    bound += [alias.name for alias in node.names]
+            bound += self.names_bound_in(tree)
+            self.assertEqual(len(bound), len(set(bound)), path)
+
+    def test_statements_and_expressions(self):
+        self.assert_none(at for at, _ in self.each_node(*BARRED_NODES))
+
+    def test_no_assignment_with_a_sign(self):
+        # What operators and properties run contains none, and most functions may be run by one.
+        self.assert_none(at for at, _ in self.each_node(ast.AugAssign))
+
+    def test_decorators(self):
+        for at, node in self.each_node(ast.FunctionDef, ast.ClassDef):
+            for decorator in node.decorator_list:
+                found = ast.unparse(decorator)
+                self.assertTrue(found in ("property", "staticmethod", "classmethod") or found == f"{node.name}.setter", at)
+
+    def test_no_annotations(self):
+        for at, node in self.each_node(ast.FunctionDef, ast.arg):
+            self.assertIsNone(node.returns if isinstance(node, ast.FunctionDef) else node.annotation, at)
+
+    def test_names(self):
+        for at, node in self.each_node(ast.FunctionDef, ast.ClassDef, ast.arg, ast.Name, ast.Attribute):
+            name = next(getattr(node, part) for part in ("name", "arg", "id", "attr") if hasattr(node, part))
+            self.assertNotIn(name, NAMES_NOT_USED, at)
+            self.assertRegex(name, r"\A(_?[A-Za-z][A-Za-z0-9_]*|_|__[a-z]+__)\Z", at)
+            if name.startswith("__"):
+                self.assertIn(name, DUNDERS, at)
+
+    def test_no_builtin_is_used_or_hidden_that_is_not_listed(self):
+        for at, node in self.each_node(ast.Name):
+            if node.id in ALL_BUILTINS:
+                self.assertIn(node.id, BUILTINS, at)
+                self.assertIsInstance(node.ctx, ast.Load, at)
+        for at, node in self.each_node(ast.arg):
+            self.assertNotIn(node.arg, ALL_BUILTINS, at)
+        for path, tree in trees():
+            for node in tree.body:
+                if isinstance(node, (ast.FunctionDef, ast.ClassDef)):
+                    self.assertNotIn(node.name, ALL_BUILTINS, path)
+
+    def test_methods(self):
+        defined = defined_names()
+        for at, node in self.each_node(ast.Call):
+            if isinstance(node.func, ast.Attribute):
+                self.assertIn(node.func.attr, METHODS | defined, at)
+                if node.func.attr == "join":
+                    self.assertIsInstance(node.func.value, ast.Constant, at)
+
+    def test_is_stands_beside_none_true_and_false(self):
+        for at, node in self.each_node(ast.Compare):
+            if isinstance(node.ops[0], (ast.Is, ast.IsNot)):
+                self.assertIsInstance(node.comparators[0], ast.Constant, at)
+
+    def test_numbers_and_strings(self):
+        for at, node in self.each_node(ast.Constant):
+            self.assertNotIsInstance(node.value, (float, complex), at)
+            if isinstance(node.value, str):
+                self.assertNotIn("%", node.value, at)
+        for at, node in self.each_node(ast.BinOp):
+            if isinstance(node.op, ast.Pow):
+                self.assertIsInstance(node.right, ast.Constant, at)
+
+    def test_sorted_takes_what_is_plainly_strings(self):
+        # Amounts compare with numbers of two kinds, so nothing else may be put in order beside them.
+        for at, node in self.each_node(ast.Call):
+            if isinstance(node.func, ast.Name) and node.func.id in ("sorted", "min", "max") and not node.keywords:
+                first = node.args[0]
+                self.assertIsInstance(first, ast.ListComp, at)
+                self.assertIn(ast.unparse(first.elt).partition("(")[0], ("str", "int", "len"), at)
+
+    def test_errors_are_made_where_they_are_raised(self):
+        for at, node in self.each_node(ast.Raise):
+            if node.exc is not None:
+                self.assertIsInstance(node.exc, ast.Call, at)
+                self.assertIsInstance(node.exc.func, ast.Name, at)
+
+    def test_own_errors_are_caught(self):
+        for at, node in self.each_node(ast.ExceptHandler):
+            self.assertIsInstance(node.type, ast.Name, at)
+            self.assertNotIn(node.type.id, ALL_BUILTINS, at)
