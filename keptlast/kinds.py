@@ -29,12 +29,23 @@ def is_list(value):
 
 def wrong_name_at(values, earlier):
     """The position of the first value that is no NAME or stands earlier, also in the NAMES `earlier`, or None."""
-    seen = {name: True for name in earlier}
+    seen = {}
+    for name in earlier:
+        seen[name] = True
     for at, value in enumerate(values):
         # Only a NAME is looked up: other values need not be fit for a key.
         if not is_name(value) or value in seen:
             return at
         seen[value] = True
+    return None
+
+
+def wrong_choice_at(values, choices):
+    """The position of the first value that is none of the choices, which are NAMES, or stands earlier, or None."""
+    for at, value in enumerate(values):
+        # Only strings are compared: other values may call themselves equal to anything.
+        if not isinstance(value, str) or value not in choices or value in values[:at]:
+            return at
     return None
 
 

@@ -3,7 +3,7 @@
 from keptlast.amounts import Amount, is_number
 from keptlast.errors import FormError, InvalidAmount, InvalidNumbers, InvalidSide, InvalidText
 from keptlast.errors import InvalidWays, InvalidWeights, UnknownField
-from keptlast.kinds import is_list, is_name, is_whole, sorted_names, wrong_name_at
+from keptlast.kinds import is_list, is_name, is_whole, sorted_names, wrong_choice_at, wrong_name_at
 
 
 class Rule:
@@ -218,11 +218,9 @@ def _checked_ways(fields, ways):
         return fields
     if not is_list(ways) or len(ways) == 0:
         raise InvalidWays(None)
-    seen = {}
-    for at, way in enumerate(ways):
-        if not isinstance(way, str) or way not in fields or way in seen:
-            raise InvalidWays(at)
-        seen[way] = True
+    position = wrong_choice_at(ways, fields)
+    if position is not None:
+        raise InvalidWays(position)
     return sorted_names(ways)
 
 

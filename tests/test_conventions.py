@@ -3,9 +3,11 @@
 import copy
 import inspect
 
-from keptlast import amounts, errors, rules
+from keptlast import amounts, drafts, errors, forms, peels, rules
 from keptlast.amounts import Amount
+from keptlast.drafts import Draft, Trial
 from keptlast.errors import InvalidAmount, InvalidCount, InvalidNumbers, InvalidSide, InvalidWays, UnknownField
+from keptlast.forms import Form
 from keptlast.rules import Loose, Product, Rule, Total
 from support import Case, Odd
 
@@ -27,7 +29,33 @@ SIGNATURES = {
     rules.Total.text: "self",
     rules.Product.text: "self",
     rules.Loose.text: "self",
+    forms.Form: "fields, rules",
+    forms.Form.of: "*fields, **rules",
+    forms.Form.names: "self",
+    forms.Form.rules: "self",
+    forms.Form.rules_of: "self, field",
+    forms.Form.__call__: "self, row",
+    forms.private: "form, names",
+    forms.rule_sets: "form",
+    drafts.Draft: "form=None",
+    drafts.Draft.set_fields: "self, fields",
+    drafts.Draft.names: "self",
+    drafts.Draft.made: "self",
+    drafts.Draft.undo: "self",
+    drafts.Draft.copy: "self",
+    drafts.Trial: "draft",
+    drafts.tried: "draft, action",
+    peels.can_stay: "form, lot",
+    peels.plan_paper: "form, lot",
+    peels.bar_paper: "form, lot",
+    peels.is_plan_paper: "form, lot, value",
+    peels.is_bar_paper: "form, lot, value",
+    peels.plan_of: "form, lot",
+    peels.plan_row: "form, lot",
+    peels.full_lots: "form",
+    peels.count_full: "form",
 }
+GENERATORS = [forms.rule_sets, peels.full_lots]
 RULES = [Total({"b": 1, "a": 2}, 3, ways=["b"]), Product(["b"], ["a"], 3, ways=["b"]), Loose(["b", "a"], ways=["b"])]
 
 
@@ -37,16 +65,42 @@ class TestInterface(Case):
             with self.subTest(action=action):
                 self.assertEqual(str(inspect.signature(action)), f"({expected})")
 
-    def test_classes_stand_in_their_files(self):
-        self.assertEqual(Amount.__module__, "keptlast.amounts")
-        for cls in [Rule, Total, Product, Loose]:
-            self.assertEqual(cls.__module__, "keptlast.rules")
+    def test_all_stand_in_their_files(self):
+        # By its dotted name each was found in the file of the interface; there it must be defined, too.
+        listed = {
+            "amounts": [amounts.Amount],
+            "rules": [rules.Rule, rules.Total, rules.Product, rules.Loose],
+            "forms": [forms.Form, forms.private, forms.rule_sets],
+            "drafts": [drafts.Draft, drafts.Trial, drafts.tried],
+            "peels": [peels.can_stay, peels.plan_paper, peels.bar_paper, peels.is_plan_paper, peels.is_bar_paper,
+                      peels.plan_of, peels.plan_row, peels.full_lots, peels.count_full],
+        }
+        for name, found in listed.items():
+            for value in found:
+                self.assertEqual(value.__module__, f"keptlast.{name}")
+
+    def test_generators(self):
+        for action in SIGNATURES:
+            self.assertEqual(inspect.isgeneratorfunction(action), action in GENERATORS)
 
     def test_operators_stand_in_the_class_itself(self):
         names = ["add", "radd", "sub", "rsub", "mul", "rmul", "floordiv", "rfloordiv", "mod", "rmod", "pow", "neg", "abs",
                  "lt", "le", "gt", "ge", "eq", "str", "repr", "bool"]
         for name in names:
             self.assertIn(f"__{name}__", vars(Amount))
+        for name in ["getitem", "contains", "len", "or", "sub", "call", "eq", "le", "lt", "ge", "gt"]:
+            self.assertIn(f"__{name}__", vars(Form))
+        for name in ["getitem", "setitem", "iadd", "isub", "len"]:
+            self.assertIn(f"__{name}__", vars(Draft))
+        for name in ["enter", "exit"]:
+            self.assertIn(f"__{name}__", vars(Trial))
+
+    def test_methods_and_properties_stand_in_the_class_itself(self):
+        for name in ["MOST_FIELDS", "MOST_RULES", "fields", "of", "names", "rules", "rules_of"]:
+            self.assertIn(name, vars(Form))
+        for name in ["sequence", "set_fields", "made", "names", "undo", "copy"]:
+            self.assertIn(name, vars(Draft))
+        self.assertIsInstance(inspect.getattr_static(Form, "of"), classmethod)
 
     def test_amounts_are_not_changed_in_place(self):
         for name in ["iadd", "isub", "imul", "ifloordiv", "imod", "ipow"]:

@@ -4,6 +4,8 @@ import doctest
 from pathlib import Path
 
 from keptlast.amounts import Amount
+from keptlast.forms import Form
+from keptlast.peels import can_stay, plan_row
 from keptlast.rules import Loose, Product, Rule, Total
 from support import Case
 
@@ -23,6 +25,26 @@ STAGE_1 = """
 >>> [Rule.read("product 1 = 3 a").left, Rule.read("sum a + 2 b = 7/2 by b").ways, Product(["b", "a"], [], 5).text()]
 [(), ('b',), 'product a b = 5']
 """
+STAGE_2 = """
+>>> from keptlast.forms import Form, private
+>>> bill = Form(["rate", "net", "tax", "gross"], {"sum": adding, "share": sharing})
+>>> [bill == Form.of("rate", "net", "tax", "gross", share=sharing, sum=adding), bill.names(), bill.rules_of("tax")]
+[True, ['share', 'sum'], ('share', 'sum')]
+>>> [private(bill, ["sum"]), private(bill, ["share", "sum"]), bill(["net", "gross"]), bill([])]
+[('net', 'tax', 'gross'), ('rate', 'gross'), ('net', 'gross'), ('rate', 'net')]
+>>> from keptlast.drafts import Draft
+>>> draft = Draft(bill)
+>>> draft["share"] = Product(["net", "rate"], ["tax"], ways=["tax"])
+>>> [draft.made() <= bill, bill <= draft.made(), draft.undo(), draft.made() == bill]
+[True, False, None, True]
+"""
+STAGE_3 = """
+>>> from keptlast.peels import count_full, plan_of, plan_row
+>>> count_full(bill)
+5
+>>> [plan_of(bill, ["net", "gross"]), plan_row(bill, ["net", "gross"]), plan_of(bill, ["rate", "gross"])]
+[{'share': 'rate', 'sum': 'tax'}, [('sum', 'tax'), ('share', 'rate')], None]
+"""
 
 
 class TestExamples(Case):
@@ -35,8 +57,23 @@ class TestExamples(Case):
     def test_stage_1(self):
         self.assert_examples(STAGE_1, 8)
 
+    def test_stage_2(self):
+        self.assert_examples(STAGE_1 + STAGE_2, 16)
+
+    def test_stage_3(self):
+        self.assert_examples(STAGE_1 + STAGE_2 + STAGE_3, 19)
+
+    def test_words_of_the_overview(self):
+        bill = Form(["rate", "net", "tax", "gross"], {
+            "sum": Total({"net": 1, "tax": 1, "gross": -1}), "share": Product(["net", "rate"], ["tax"])})
+        for name in bill.names():
+            self.assert_same(bill[name].ways, bill[name].fields)
+        self.assert_same([bill(["net", "gross"]), plan_row(bill, ["net", "gross"])],
+                         [("net", "gross"), [("sum", "tax"), ("share", "rate")]])
+        self.assert_same([bill(["net", "gross", "rate"]), can_stay(bill, ["gross", "rate"])], [("rate", "net"), False])
+
     def test_readme(self):
-        self.assert_examples(README.read_text(encoding="utf-8"), 10)
+        self.assert_examples(README.read_text(encoding="utf-8"), 25)
 
     def test_texts_of_point_13(self):
         adding = Total({"net": 1, "tax": 1, "gross": -1})

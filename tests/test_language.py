@@ -30,6 +30,13 @@ NAMES_NOT_USED = set(
     "register mro elements open input law version_info with_traceback add_note attrgetter breakpoint builtins compile "
     "copyright credits delattr dir eval exec exit gc getattr globals hasattr help id importlib license locals methodcaller os "
     "quit setattr type vars sys format format_map".split())
+WORDS_NOT_USED = set(
+    "type typing typing_extensions enum Enum IntEnum StrEnum Flag IntFlag Generic Protocol ABC ABCMeta namedtuple NamedTuple "
+    "TypedDict TYPE_CHECKING abstractmethod".split())
+MODIFYING = set("append extend insert pop remove clear reverse update setdefault sort".split())
+COMPREHENSIONS = (ast.ListComp, ast.DictComp)
+# What a generator's call stands in.
+ITERATING = set("list tuple dict sorted sum min max any all enumerate zip".split())
 # Python's console, and doctest with it, may keep its last answer among the builtins.
 ALL_BUILTINS = set(vars(builtins)) - {"_", "__init__"}
 BARRED_NODES = (
@@ -41,6 +48,37 @@ def trees():
     for path in FILES:
         if path.suffix == ".py":
             yield path, ast.parse(path.read_text(encoding="utf-8"))
+
+
+def functions_of(tree):
+    for node in ast.walk(tree):
+        if isinstance(node, ast.FunctionDef):
+            yield node
+
+
+def is_generator(function):
+    return any(isinstance(node, (ast.Yield, ast.YieldFrom)) for node in ast.walk(function))
+
+
+def parameters_of(function):
+    args = function.args
+    return [arg.arg for arg in [*args.posonlyargs, *args.args, *args.kwonlyargs, args.vararg, args.kwarg] if arg is not None]
+
+
+def modified_in(function):
+    """The expressions of what a function modifies: by an item, by del, or by a method."""
+    for node in ast.walk(function):
+        if isinstance(node, ast.Subscript) and isinstance(node.ctx, (ast.Store, ast.Del)):
+            yield node.value
+        if isinstance(node, ast.Call) and isinstance(node.func, ast.Attribute) and node.func.attr in MODIFYING:
+            yield node.func.value
+
+
+def is_made_here(value):
+    """Whether an expression makes a new list or dict."""
+    if isinstance(value, ast.Call) and isinstance(value.func, ast.Name):
+        return value.func.id in ("list", "dict", "sorted")
+    return isinstance(value, (ast.List, ast.Dict, ast.ListComp))
 
 
 def defined_names():
@@ -203,3 +241,94 @@ class TestLanguage(unittest.TestCase):
         for at, node in self.each_node(ast.ExceptHandler):
             self.assertIsInstance(node.type, ast.Name, at)
             self.assertNotIn(node.type.id, ALL_BUILTINS, at)
+
+    def test_items_come_with_iteration(self):
+        for at, node in self.each_node(ast.ClassDef):
+            methods = {part.name: part for part in node.body if isinstance(part, ast.FunctionDef)}
+            if "__getitem__" in methods:
+                self.assertIsInstance(methods["__iter__"].body[0], ast.Raise, at)
+                self.assertEqual(len(methods["__iter__"].body), 1, at)
+        for path, _ in trees():
+            for text in ["(type)", "Meta", "metaclass="]:
+                self.assertNotIn(text, path.read_text(encoding="utf-8"), path)
+
+    def test_only_what_a_function_made_is_modified(self):
+        # Operators and properties change nothing, and neither does what they call: here, no function does.
+        for path, tree in trees():
+            for function in functions_of(tree):
+                for target in modified_in(function):
+                    at = f"{path.name}:{target.lineno}"
+                    while isinstance(target, ast.Subscript):
+                        target = target.value
+                    self.assertIsInstance(target, ast.Name, at)
+                    made = [node.value for node in ast.walk(function) if isinstance(node, ast.Assign)
+                            and ast.unparse(node.targets[0]) == target.id]
+                    self.assertTrue(made and all(is_made_here(value) for value in made), at)
+
+    def test_attributes_are_assigned_by_changing_methods_only(self):
+        changing = {"Draft": ["__init__", "undo", "copy", "_go_on"], "Trial": ["__init__", "__enter__", "__exit__"]}
+        for _, tree in trees():
+            for cls in tree.body:
+                for node in ast.walk(cls):
+                    if isinstance(node, ast.FunctionDef) and any(
+                            isinstance(part, ast.Attribute) and isinstance(part.ctx, ast.Store) for part in ast.walk(node)):
+                        self.assertIn(node.name, changing.get(cls.name, ["__init__"]), cls.name)
+
+    def test_generators_are_iterated_at_once(self):
+        names = {function.name for _, tree in trees() for function in functions_of(tree) if is_generator(function)}
+        for path, tree in trees():
+            for function in functions_of(tree):
+                self.assertTrue(function.name not in names or is_generator(function), path)
+                self.assertFalse(names & set(parameters_of(function)), path)
+            allowed = [node.iter for node in ast.walk(tree) if isinstance(node, (ast.For, ast.comprehension))]
+            allowed = allowed + [node.value for node in ast.walk(tree) if isinstance(node, ast.YieldFrom)]
+            allowed = allowed + [node.args[0] for node in ast.walk(tree) if isinstance(node, ast.Call)
+                                 and isinstance(node.func, ast.Name) and node.func.id in ITERATING and node.args]
+            for node in ast.walk(tree):
+                if isinstance(node, ast.Call) and isinstance(node.func, ast.Name) and node.func.id in names:
+                    self.assertIn(node, allowed, f"{path.name}:{node.lineno}")
+
+    def test_no_local_name_is_that_of_a_class_or_an_import(self):
+        for path, tree in trees():
+            taken = {alias.name for node in tree.body if isinstance(node, ast.ImportFrom) for alias in node.names}
+            taken = taken | {node.name for node in tree.body if isinstance(node, ast.ClassDef)}
+            for function in functions_of(tree):
+                stored = {node.id for node in ast.walk(function) if isinstance(node, ast.Name) and isinstance(node.ctx, ast.Store)}
+                self.assertFalse(taken & (stored | set(parameters_of(function))), f"{path.name} {function.name}")
+
+    def test_comprehensions_within_others_have_names_of_their_own(self):
+        for path, tree in trees():
+            for outer in ast.walk(tree):
+                if isinstance(outer, COMPREHENSIONS):
+                    targets = [ast.unparse(part.target) for part in outer.generators]
+                    for inner in ast.walk(outer):
+                        if isinstance(inner, COMPREHENSIONS) and inner is not outer:
+                            for part in inner.generators:
+                                self.assertNotIn(ast.unparse(part.target), targets, f"{path.name}:{inner.lineno}")
+
+    def test_words_that_do_not_occur(self):
+        for at, node in self.each_node(ast.Name, ast.Attribute, ast.FunctionDef, ast.ClassDef, ast.arg, ast.keyword):
+            name = next(getattr(node, part) for part in ("name", "arg", "id", "attr") if hasattr(node, part))
+            self.assertNotIn(name, WORDS_NOT_USED, at)
+
+    def test_properties_have_names_of_their_own(self):
+        properties, methods = set(), set()
+        for _, node in self.each_node(ast.ClassDef):
+            for part in node.body:
+                if isinstance(part, ast.FunctionDef):
+                    decorated = [ast.unparse(one) for one in part.decorator_list]
+                    is_property = "property" in decorated or f"{part.name}.setter" in decorated
+                    (properties if is_property else methods).add(part.name)
+        self.assertFalse(properties & methods)
+        self.assertFalse(properties & METHODS)
+        for at, node in self.each_node(ast.Attribute):
+            if isinstance(node.ctx, ast.Store):
+                # Several classes may use one name for a method and for an attribute; here none does.
+                self.assertNotIn(node.attr, methods, at)
+
+    def test_documented(self):
+        for path, tree in trees():
+            self.assertIsNotNone(ast.get_docstring(tree), path)
+            for node in tree.body:
+                if isinstance(node, ast.ClassDef):
+                    self.assertIsNotNone(ast.get_docstring(node), f"{path.name} {node.name}")
