@@ -1,6 +1,6 @@
-"""What functions of several files ask of their parameters, and of any values that may be papers."""
+"""What functions of several files ask of their parameters."""
 
-from keptlast.errors import InvalidLot, InvalidRow, OtherFields, UnknownField
+from keptlast.errors import InvalidLot, InvalidRow, OtherFields, OtherSequence, UnknownField
 from keptlast.kinds import is_list, sorted_names, wrong_choice_at
 
 
@@ -34,3 +34,11 @@ def check_same_fields(one, other):
     alone = sorted_names([*alone, *[field for field in other.fields if field not in one]])
     if len(alone) > 0:
         raise OtherFields(alone[0])
+
+
+def check_same_sequence(one, other):
+    """OtherFields, and then OtherSequence, unless both forms have the same fields in the same sequence."""
+    check_same_fields(one, other)
+    for at, field in enumerate(one.fields):
+        if field != other.fields[at]:
+            raise OtherSequence(at)

@@ -67,11 +67,12 @@ class Shape:
 
     def clash_numbers(self):
         """The numbers of all clashes, in the order of lots."""
-        # Several sets of rules may have the same private fields.
-        privates = {number: True for number in list(self._privates.values())}
-        falling = sorted([int(number) for number in privates], reverse=True)
-        least = [number for number in falling if not any([_is_less(other, number) for other in privates])]
-        return [number for size in range(len(self._bits) + 1) for number in least if size_of(number) == size]
+        found = []
+        for number in in_order(list(self._privates.values()), len(self._bits)):
+            # Lots within this one have fewer fields or are this one, so they stand ahead of it.
+            if not any([less & ~number == 0 for less in found]):
+                found.append(number)
+        return found
 
     def is_within(self, other):
         """Whether each lot that can stay here can stay in another shape with the same fields."""
@@ -92,6 +93,39 @@ def size_of(number):
     return size
 
 
+def in_order(numbers, many):
+    """The numbers of some lots of a form with so many fields, in the order of lots."""
+    full = (1 << many) - 1
+    # The length counts first; then the higher number stands ahead.
+    keys = sorted([int((size_of(number) << many) + full - number) for number in numbers])
+    return [full - (key & full) for key in keys]
+
+
+def with_next(stays, number, bit):
+    """The number of the kept lot once an order goes on with one more field; `stays` is as of a Shape."""
+    return number | bit if stays[number | bit] else number
+
+
+def gone_on(tables, state, bit):
+    """Where two ways through the same fields lead if both go on with one more field.
+
+    The tables are a pair of what a Shape tells by `stays`. A state is a tuple of three numbers: of the fields that were
+    gone through, and of those of them that are kept on the first way and on the second one.
+    """
+    seen, first, second = state
+    if seen & bit != 0:
+        return state
+    return seen | bit, with_next(tables[0], first, bit), with_next(tables[1], second, bit)
+
+
+def sets_as_keys(names):
+    """All sets of these sorted names, in the order in which Python compares tuples."""
+    found = []
+    for name in reversed(list(names)):
+        found = [(name,), *[(name, *others) for others in found], *found]
+    return found
+
+
 def order_of(fields, row):
     """The order of these fields behind a row: what was edited last is first."""
     order = []
@@ -99,11 +133,6 @@ def order_of(fields, row):
         if field not in order:
             order.append(field)
     return [*order, *[field for field in fields if field not in order]]
-
-
-def _is_less(one, other):
-    """Whether the lot with the first number lies within the other one and lacks one of its fields."""
-    return one != other and one & ~other == 0
 
 
 def _sets_in_order(names):

@@ -42,8 +42,11 @@ class Model:
             if len(set(chosen)) == len(chosen):
                 yield dict(zip(self.rules, chosen))
 
-    def has_row(self, plan):
-        return any(self.is_row(plan, row) for row in permutations(self.rules))
+    def has_row(self, plan, begun=()):
+        if len(begun) == len(self.rules):
+            return True
+        return any(self.has_row(plan, (*begun, name)) for name in self.rules
+                   if name not in begun and self.is_row(plan, (*begun, name)))
 
     def is_row(self, plan, row):
         return not any(plan[name] in self.rules[ahead][0] for at, name in enumerate(row) for ahead in row[:at])
@@ -82,8 +85,15 @@ class Model:
             yield from permutations(self.fields, size)
 
 
+MODELS = {}
+
+
 def model_of(form):
-    return Model(form.fields, {name: (rule.fields, rule.ways) for name, rule in form.rules().items()})
+    """The model of a form; it takes long for large ones, so equal forms have the same one."""
+    key = (form.fields, repr(form.rules()))
+    if key not in MODELS:
+        MODELS[key] = Model(form.fields, {name: (rule.fields, rule.ways) for name, rule in form.rules().items()})
+    return MODELS[key]
 
 
 def rules_over(fields):
@@ -138,3 +148,46 @@ def small_forms():
 
 def any_forms(count, seed, most_fields=6, most_rules=4):
     yield from formed(any_parts(count, seed, most_fields, most_rules))
+
+
+def pairs_of_forms(forms, step=1):
+    """Pairs of forms with the same fields, in any sequence: every one that many of them."""
+    alike = {}
+    for form in forms:
+        alike.setdefault(tuple(sorted(form.fields)), []).append(form)
+    pairs = [pair for group in alike.values() for pair in product(group, repeat=2)]
+    return pairs[::step]
+
+
+def any_pairs(count, seed, most_fields=5, most_rules=3):
+    """Pairs of forms of all kinds with the same fields in the same sequence; many of them are nearly the same."""
+    chance = random.Random(seed)
+    for one in any_forms(count, seed, most_fields, most_rules):
+        rules = one.rules()
+        for name in chance.sample(sorted(rules), min(len(rules), chance.randint(0, 2))):
+            rules[name] = any_rule(chance, one.fields)
+        if rules and chance.random() < 0.3:
+            rules[chance.choice(["new", "a", "z"])] = rules.pop(chance.choice(sorted(rules)))
+        for other in formed([(one.fields, rules)]):
+            yield one, other
+
+
+def any_rows(model, chance, count):
+    """Rows of any length that edit fields several times."""
+    for _ in range(count):
+        yield [chance.choice(model.fields) for _ in range(chance.randint(0, 12))]
+
+
+def tangled_forms(count, seed):
+    """Forms whose rules share many fields: in some of them, an edit throws out several fields."""
+    chance = random.Random(seed)
+    made = 0
+    while made < count:
+        fields = [f"f{at}" for at in range(chance.randint(5, 6))]
+        rules = {}
+        for name in ["p", "q", "r", "s"][:chance.randint(3, 4)]:
+            tied = chance.sample(fields, chance.randint(2, 4))
+            rules[name] = Loose(tied, ways=tied if chance.random() < 0.6 else chance.sample(tied, 2))
+        for form in formed([(fields, rules)]):
+            made += 1
+            yield form

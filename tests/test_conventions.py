@@ -3,7 +3,7 @@
 import copy
 import inspect
 
-from keptlast import amounts, drafts, errors, forms, peels, rules
+from keptlast import amounts, clashes, drafts, errors, exchange, forms, pairs, peels, rows, rules
 from keptlast.amounts import Amount
 from keptlast.drafts import Draft, Trial
 from keptlast.errors import InvalidAmount, InvalidCount, InvalidNumbers, InvalidSide, InvalidWays, UnknownField
@@ -54,8 +54,39 @@ SIGNATURES = {
     peels.plan_row: "form, lot",
     peels.full_lots: "form",
     peels.count_full: "form",
+    clashes.clashes: "form",
+    clashes.is_clash: "form, lot",
+    clashes.clash_rules: "form, lot",
+    clashes.never: "form",
+    clashes.first_clash: "form, field",
+    clashes.lots_paper: "one, other",
+    clashes.is_lots_paper: "one, other, value",
+    clashes.lot_apart: "one, other",
+    rows.order_behind: "form, row",
+    rows.kept: "form, row",
+    rows.worked_out: "form, row",
+    rows.plan_behind: "form, row",
+    rows.thrown_out: "form, row, field",
+    rows.comes_in: "form, row, field",
+    rows.kept_along: "form, row",
+    rows.row_paper: "form, row",
+    rows.is_row_paper: "form, row, value",
+    pairs.are_alike: "one, other",
+    pairs.parting: "one, other",
+    pairs.alike_paper: "one, other",
+    pairs.is_alike_paper: "one, other, value",
+    pairs.loss: "one, other",
+    pairs.are_unions: "one, other",
+    exchange.sure_last: "form",
+    exchange.last_paper: "form, many",
+    exchange.is_last_paper: "form, many, value",
+    exchange.is_one_for_one: "form",
+    exchange.two_out: "form",
+    exchange.most_out: "form",
+    exchange.rivals: "form, field",
+    exchange.fewest_ways: "form, many",
 }
-GENERATORS = [forms.rule_sets, peels.full_lots]
+GENERATORS = [forms.rule_sets, peels.full_lots, clashes.clashes, rows.kept_along]
 RULES = [Total({"b": 1, "a": 2}, 3, ways=["b"]), Product(["b"], ["a"], 3, ways=["b"]), Loose(["b", "a"], ways=["b"])]
 
 
@@ -74,6 +105,14 @@ class TestInterface(Case):
             "drafts": [drafts.Draft, drafts.Trial, drafts.tried],
             "peels": [peels.can_stay, peels.plan_paper, peels.bar_paper, peels.is_plan_paper, peels.is_bar_paper,
                       peels.plan_of, peels.plan_row, peels.full_lots, peels.count_full],
+            "clashes": [clashes.clashes, clashes.is_clash, clashes.clash_rules, clashes.never, clashes.first_clash,
+                        clashes.lots_paper, clashes.is_lots_paper, clashes.lot_apart],
+            "rows": [rows.order_behind, rows.kept, rows.worked_out, rows.plan_behind, rows.thrown_out, rows.comes_in,
+                     rows.kept_along, rows.row_paper, rows.is_row_paper],
+            "pairs": [pairs.are_alike, pairs.parting, pairs.alike_paper, pairs.is_alike_paper, pairs.loss,
+                      pairs.are_unions],
+            "exchange": [exchange.sure_last, exchange.last_paper, exchange.is_last_paper, exchange.is_one_for_one,
+                         exchange.two_out, exchange.most_out, exchange.rivals, exchange.fewest_ways],
         }
         for name, found in listed.items():
             for value in found:

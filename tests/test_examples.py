@@ -6,6 +6,7 @@ from pathlib import Path
 from keptlast.amounts import Amount
 from keptlast.forms import Form
 from keptlast.peels import can_stay, plan_row
+from keptlast.rows import thrown_out, worked_out
 from keptlast.rules import Loose, Product, Rule, Total
 from support import Case
 
@@ -40,10 +41,31 @@ STAGE_2 = """
 """
 STAGE_3 = """
 >>> from keptlast.peels import count_full, plan_of, plan_row
->>> count_full(bill)
-5
+>>> from keptlast.clashes import clash_rules, clashes
+>>> [list(clashes(bill)), clash_rules(bill, ["gross", "rate"]), count_full(bill)]
+[[('rate', 'gross'), ('rate', 'net', 'tax'), ('net', 'tax', 'gross')], ('share', 'sum'), 5]
 >>> [plan_of(bill, ["net", "gross"]), plan_row(bill, ["net", "gross"]), plan_of(bill, ["rate", "gross"])]
 [{'share': 'rate', 'sum': 'tax'}, [('sum', 'tax'), ('share', 'rate')], None]
+"""
+STAGE_4 = """
+>>> from keptlast.rows import comes_in, kept_along, order_behind, thrown_out
+>>> [order_behind(bill, ["net", "gross"]), list(kept_along(bill, ["net", "gross", "rate"]))]
+[['gross', 'net', 'rate', 'tax'], [('rate', 'net'), ('rate', 'net'), ('net', 'gross'), ('rate', 'net')]]
+>>> [thrown_out(bill, ["net", "gross"], "rate"), comes_in(bill, ["net", "gross"], "rate")]
+[('gross',), ('rate',)]
+"""
+STAGE_5 = """
+>>> from keptlast.pairs import are_unions, loss, parting
+>>> from keptlast.rules import Loose
+>>> pair = Form(["a", "b", "c"], {"p": Loose(["a", "b"])})
+>>> three = Form(["a", "b", "c"], {"q": Loose(["a", "b", "c"])})
+>>> [pair <= three, three <= pair, parting(pair, three), loss(pair, three), are_unions(pair, three)]
+[True, False, [], [], False]
+"""
+STAGE_6 = """
+>>> from keptlast.exchange import is_one_for_one, most_out, rivals, sure_last
+>>> [sure_last(bill), is_one_for_one(bill), most_out(bill), rivals(bill, "rate")]
+[1, True, 1, ('net', 'tax', 'gross')]
 """
 
 
@@ -61,7 +83,10 @@ class TestExamples(Case):
         self.assert_examples(STAGE_1 + STAGE_2, 16)
 
     def test_stage_3(self):
-        self.assert_examples(STAGE_1 + STAGE_2 + STAGE_3, 19)
+        self.assert_examples(STAGE_1 + STAGE_2 + STAGE_3, 20)
+
+    def test_stages_4_to_6(self):
+        self.assert_examples(STAGE_1 + STAGE_2 + STAGE_3 + STAGE_4 + STAGE_5 + STAGE_6, 30)
 
     def test_words_of_the_overview(self):
         bill = Form(["rate", "net", "tax", "gross"], {
@@ -71,9 +96,11 @@ class TestExamples(Case):
         self.assert_same([bill(["net", "gross"]), plan_row(bill, ["net", "gross"])],
                          [("net", "gross"), [("sum", "tax"), ("share", "rate")]])
         self.assert_same([bill(["net", "gross", "rate"]), can_stay(bill, ["gross", "rate"])], [("rate", "net"), False])
+        self.assert_same([thrown_out(bill, ["net", "gross"], "rate"), worked_out(bill, ["net", "gross"])],
+                         [("gross",), ("rate", "tax")])
 
     def test_readme(self):
-        self.assert_examples(README.read_text(encoding="utf-8"), 25)
+        self.assert_examples(README.read_text(encoding="utf-8"), 33)
 
     def test_texts_of_point_13(self):
         adding = Total({"net": 1, "tax": 1, "gross": -1})

@@ -121,6 +121,11 @@ class TestPapers(Case):
             [("sum", "tax"), "sr"], ["st", "sr"], [[]], [()], {}, b"", b"ab", (("sum", "tax"), ["share", "rate"])]
         for value in wrong:
             self.assert_same(is_plan_paper(BILL, ["net", "gross"], value), False)
+        for value in [EqualToAll(), Odd(), None, 1, True, b"rate", ["rate"], ("rate",), "x"]:
+            # The empty lot contains no value.
+            self.assert_same(is_plan_paper(BILL, [], [("sum", "tax"), ("share", value)]), False)
+            self.assert_same(is_plan_paper(BILL, [], [("sum", value), ("share", "rate")]), False)
+            self.assert_same(is_plan_paper(BILL, [], [("sum", "tax"), (value, "rate")]), False)
         self.assert_same(is_plan_paper(BILL, ["net", "rate"], right), False)
         self.assert_same(is_plan_paper(BILL, ["net", "tax"], right), False)
 
