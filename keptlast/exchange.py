@@ -3,7 +3,7 @@
 from keptlast.checks import check_field
 from keptlast.errors import InvalidCount, TooMany
 from keptlast.forms import private, shape_of
-from keptlast.kinds import is_count
+from keptlast.kinds import is_count, is_lot_of
 from keptlast.shapes import gone_on, sets_as_keys, size_of, with_next
 
 MOST_FIELDS_OF_ROWS = 7
@@ -34,7 +34,7 @@ def is_last_paper(form, many, value):
         return False
     if not all([shape_of(form).is_set(key) for key in value]):
         return False
-    return all([_is_lot_of(private(form, key), many + 1, value[key]) for key in value])
+    return all([is_lot_of(private(form, key), value[key]) and len(value[key]) == many + 1 for key in value])
 
 
 def is_one_for_one(form):
@@ -94,13 +94,6 @@ def _check_count(many):
 def _check_few_fields(form):
     if len(form.fields) > MOST_FIELDS_OF_ROWS:
         raise TooMany("fields", MOST_FIELDS_OF_ROWS)
-
-
-def _is_lot_of(fields, size, value):
-    """Whether any value is a lot of so many of these fields, in their sequence."""
-    if not isinstance(value, tuple) or len(value) != size or not all([isinstance(field, str) for field in value]):
-        return False
-    return value == tuple([field for field in fields if field in value])
 
 
 def _unexchanged(form):

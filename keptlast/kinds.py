@@ -52,3 +52,15 @@ def wrong_choice_at(values, choices):
 def sorted_names(names):
     """The sorted tuple of some NAMES."""
     return tuple(sorted([str(name) for name in names]))
+
+
+def is_lot_of(fields, value):
+    """Whether any value is a tuple of some of these different fields, in their sequence."""
+    if not isinstance(value, tuple) or not all([isinstance(field, str) for field in value]):
+        return False
+    return value == tuple([field for field in fields if field in value])
+
+
+def lot_without(lot, others):
+    """The fields of a lot that are not among others."""
+    return tuple([field for field in lot if field not in others])

@@ -1,7 +1,7 @@
 """Rows of edits: what is kept behind them, and the papers of that."""
 
 from keptlast.checks import check_field, check_row
-from keptlast.kinds import is_list
+from keptlast.kinds import is_list, lot_without
 from keptlast.peels import bar_paper, is_bar_paper, is_plan_paper, plan_of, plan_paper
 from keptlast.shapes import order_of
 
@@ -19,7 +19,7 @@ def kept(form, row):
 
 def worked_out(form, row):
     """The lot of the fields that are worked out behind a row."""
-    return _without(form.fields, form(row))
+    return lot_without(form.fields, form(row))
 
 
 def plan_behind(form, row):
@@ -30,13 +30,13 @@ def plan_behind(form, row):
 def thrown_out(form, row, field):
     """The lot of the fields that an edit of a field behind a row throws out."""
     before, behind = _kept_around(form, row, field)
-    return _without(before, behind)
+    return lot_without(before, behind)
 
 
 def comes_in(form, row, field):
     """The lot of the fields that come in if a field is edited behind a row."""
     before, behind = _kept_around(form, row, field)
-    return _without(behind, before)
+    return lot_without(behind, before)
 
 
 def kept_along(form, row):
@@ -80,8 +80,3 @@ def _kept_around(form, row, field):
     check_row(form, row)
     check_field(form, field)
     return form(row), form([*row, field])
-
-
-def _without(lot, others):
-    """The fields of a lot that are not among others."""
-    return tuple([field for field in lot if field not in others])

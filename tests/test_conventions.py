@@ -3,12 +3,13 @@
 import copy
 import inspect
 
-from keptlast import amounts, clashes, drafts, errors, exchange, forms, pairs, peels, rows, rules
+from keptlast import amounts, clashes, drafts, errors, exchange, forms, known, pairs, peels, rows, rules, sheets, webs
 from keptlast.amounts import Amount
 from keptlast.drafts import Draft, Trial
 from keptlast.errors import InvalidAmount, InvalidCount, InvalidNumbers, InvalidSide, InvalidWays, UnknownField
 from keptlast.forms import Form
 from keptlast.rules import Loose, Product, Rule, Total
+from keptlast.sheets import Sheet
 from support import Case, Odd
 
 SIGNATURES = {
@@ -85,6 +86,24 @@ SIGNATURES = {
     exchange.most_out: "form",
     exchange.rivals: "form, field",
     exchange.fewest_ways: "form, many",
+    webs.is_web: "form",
+    webs.ends: "form",
+    webs.count_trees: "form",
+    known.possible: "form, facts",
+    known.sure: "form, facts",
+    known.lost: "form, facts",
+    known.order_for: "form, facts, lot",
+    known.stands_paper: "form, facts",
+    known.is_stands_paper: "form, facts, value",
+    sheets.Sheet: "form, numbers",
+    sheets.Sheet.set_form: "self, form",
+    sheets.Sheet.numbers: "self",
+    sheets.Sheet.table: "self",
+    sheets.Sheet.edit: "self, field, number",
+    sheets.Sheet.edit_all: "self, edits",
+    sheets.Sheet.undo: "self",
+    sheets.Sheet.copy: "self",
+    sheets.Sheet.tried: "self, action",
 }
 GENERATORS = [forms.rule_sets, peels.full_lots, clashes.clashes, rows.kept_along]
 RULES = [Total({"b": 1, "a": 2}, 3, ways=["b"]), Product(["b"], ["a"], 3, ways=["b"]), Loose(["b", "a"], ways=["b"])]
@@ -113,6 +132,9 @@ class TestInterface(Case):
                       pairs.are_unions],
             "exchange": [exchange.sure_last, exchange.last_paper, exchange.is_last_paper, exchange.is_one_for_one,
                          exchange.two_out, exchange.most_out, exchange.rivals, exchange.fewest_ways],
+            "webs": [webs.is_web, webs.ends, webs.count_trees],
+            "known": [known.possible, known.sure, known.lost, known.order_for, known.stands_paper, known.is_stands_paper],
+            "sheets": [sheets.Sheet],
         }
         for name, found in listed.items():
             for value in found:
@@ -133,12 +155,18 @@ class TestInterface(Case):
             self.assertIn(f"__{name}__", vars(Draft))
         for name in ["enter", "exit"]:
             self.assertIn(f"__{name}__", vars(Trial))
+        for name in ["getitem", "setitem", "contains", "len"]:
+            self.assertIn(f"__{name}__", vars(Sheet))
 
     def test_methods_and_properties_stand_in_the_class_itself(self):
         for name in ["MOST_FIELDS", "MOST_RULES", "fields", "of", "names", "rules", "rules_of"]:
             self.assertIn(name, vars(Form))
         for name in ["sequence", "set_fields", "made", "names", "undo", "copy"]:
             self.assertIn(name, vars(Draft))
+        for name in ["order", "kept", "form", "set_form", "numbers", "table", "edit", "edit_all", "undo", "changes", "copy", "tried"]:
+            self.assertIn(name, vars(Sheet))
+        for name in ["order", "kept", "form", "changes"]:
+            self.assertIsInstance(vars(Sheet)[name], property)
         self.assertIsInstance(inspect.getattr_static(Form, "of"), classmethod)
 
     def test_amounts_are_not_changed_in_place(self):
@@ -156,6 +184,13 @@ class TestObjectsDoNotChange(Case):
                         setattr(rule, name, ("b",))
         self.assert_same([rule.text() for rule in RULES],
                          ["sum 2 a + b = 3 by b", "product b = 3 a by b", "loose a b by b"])
+
+    def test_properties_of_a_sheet_cannot_be_assigned(self):
+        sheet = Sheet(Form(["a"], {}), {"a": 1})
+        for name in ["order", "kept", "changes"]:
+            with self.assertRaises(AttributeError):
+                setattr(sheet, name, ())
+        self.assert_same([sheet.order, sheet.kept, sheet.changes], [("a",), ("a",), 0])
 
     def test_what_is_returned_may_be_changed(self):
         rule = Total({"b": 1, "a": 2})

@@ -64,8 +64,25 @@ STAGE_5 = """
 """
 STAGE_6 = """
 >>> from keptlast.exchange import is_one_for_one, most_out, rivals, sure_last
+>>> from keptlast.webs import count_trees, ends
 >>> [sure_last(bill), is_one_for_one(bill), most_out(bill), rivals(bill, "rate")]
 [1, True, 1, ('net', 'tax', 'gross')]
+>>> [ends(bill)["net"], ends(bill)["gross"], count_trees(bill)]
+[('share', 'sum'), ('', 'sum'), 5]
+"""
+STAGE_7 = """
+>>> from keptlast.known import lost, possible, sure
+>>> facts = [("gross", "rate"), ("net", "tax")]
+>>> [possible(bill, facts), sure(bill, facts), lost(bill, facts)]
+[[('net', 'tax'), ('net', 'gross')], ('net',), ('rate',)]
+"""
+STAGE_8 = """
+>>> from keptlast.sheets import Sheet
+>>> sheet = Sheet(bill, {"rate": Amount(1, 5), "net": 100})
+>>> [str(sheet["tax"]), str(sheet["gross"]), sheet.edit("gross", 240), str(sheet["tax"]), str(sheet["rate"])]
+['20', '120', ('rate',), '140', '7/5']
+>>> [sheet.changes, sheet.table()[0], sheet.table()[1]]
+[1, 'gross    *          240', 'rate                7/5']
 """
 
 
@@ -86,7 +103,10 @@ class TestExamples(Case):
         self.assert_examples(STAGE_1 + STAGE_2 + STAGE_3, 20)
 
     def test_stages_4_to_6(self):
-        self.assert_examples(STAGE_1 + STAGE_2 + STAGE_3 + STAGE_4 + STAGE_5 + STAGE_6, 30)
+        self.assert_examples(STAGE_1 + STAGE_2 + STAGE_3 + STAGE_4 + STAGE_5 + STAGE_6, 32)
+
+    def test_stages_7_and_8(self):
+        self.assert_examples(STAGE_1 + STAGE_2 + STAGE_3 + STAGE_4 + STAGE_5 + STAGE_6 + STAGE_7 + STAGE_8, 39)
 
     def test_words_of_the_overview(self):
         bill = Form(["rate", "net", "tax", "gross"], {
@@ -100,7 +120,7 @@ class TestExamples(Case):
                          [("gross",), ("rate", "tax")])
 
     def test_readme(self):
-        self.assert_examples(README.read_text(encoding="utf-8"), 33)
+        self.assert_examples(README.read_text(encoding="utf-8"), 46)
 
     def test_texts_of_point_13(self):
         adding = Total({"net": 1, "tax": 1, "gross": -1})

@@ -239,8 +239,9 @@ class TestLanguage(unittest.TestCase):
 
     def test_own_errors_are_caught(self):
         for at, node in self.each_node(ast.ExceptHandler):
-            self.assertIsInstance(node.type, ast.Name, at)
-            self.assertNotIn(node.type.id, ALL_BUILTINS, at)
+            for error in node.type.elts if isinstance(node.type, ast.Tuple) else [node.type]:
+                self.assertIsInstance(error, ast.Name, at)
+                self.assertNotIn(error.id, ALL_BUILTINS, at)
 
     def test_items_come_with_iteration(self):
         for at, node in self.each_node(ast.ClassDef):
@@ -266,7 +267,8 @@ class TestLanguage(unittest.TestCase):
                     self.assertTrue(made and all(is_made_here(value) for value in made), at)
 
     def test_attributes_are_assigned_by_changing_methods_only(self):
-        changing = {"Draft": ["__init__", "undo", "copy", "_go_on"], "Trial": ["__init__", "__enter__", "__exit__"]}
+        changing = {"Draft": ["__init__", "undo", "copy", "_go_on"], "Trial": ["__init__", "__enter__", "__exit__"],
+                    "Sheet": ["__init__", "set_form", "edit", "edit_all", "undo", "copy", "tried"]}
         for _, tree in trees():
             for cls in tree.body:
                 for node in ast.walk(cls):
