@@ -3,7 +3,8 @@
 import copy
 import inspect
 
-from keptlast import amounts, clashes, drafts, errors, exchange, forms, known, pairs, peels, rows, rules, sheets, webs
+from keptlast import (amounts, clashes, desk, drafts, errors, exchange, forms, gains, judge, known, pairs, peels, rows, rules, sheets,
+                      texts, webs)
 from keptlast.amounts import Amount
 from keptlast.drafts import Draft, Trial
 from keptlast.errors import InvalidAmount, InvalidCount, InvalidNumbers, InvalidSide, InvalidWays, UnknownField
@@ -104,6 +105,18 @@ SIGNATURES = {
     sheets.Sheet.undo: "self",
     sheets.Sheet.copy: "self",
     sheets.Sheet.tried: "self, action",
+    gains.hangs_on: "form, row, field",
+    gains.gains: "form, row",
+    texts.form_text: "form",
+    texts.read_form: "text",
+    judge.is_claim: "value",
+    judge.is_certificate: "claim, value",
+    judge.certificate_of: "claim",
+    desk.Desk: "sheet",
+    desk.Desk.sheet: "self",
+    desk.Desk.do: "self, line",
+    desk.Desk.do_all: "self, *lines",
+    desk.Desk.log: "self",
 }
 GENERATORS = [forms.rule_sets, peels.full_lots, clashes.clashes, rows.kept_along]
 RULES = [Total({"b": 1, "a": 2}, 3, ways=["b"]), Product(["b"], ["a"], 3, ways=["b"]), Loose(["b", "a"], ways=["b"])]
@@ -135,6 +148,10 @@ class TestInterface(Case):
             "webs": [webs.is_web, webs.ends, webs.count_trees],
             "known": [known.possible, known.sure, known.lost, known.order_for, known.stands_paper, known.is_stands_paper],
             "sheets": [sheets.Sheet],
+            "gains": [gains.hangs_on, gains.gains],
+            "texts": [texts.form_text, texts.read_form],
+            "judge": [judge.is_claim, judge.is_certificate, judge.certificate_of],
+            "desk": [desk.Desk],
         }
         for name, found in listed.items():
             for value in found:
@@ -165,6 +182,8 @@ class TestInterface(Case):
             self.assertIn(name, vars(Draft))
         for name in ["order", "kept", "form", "set_form", "numbers", "table", "edit", "edit_all", "undo", "changes", "copy", "tried"]:
             self.assertIn(name, vars(Sheet))
+        for name in ["sheet", "do", "do_all", "log"]:
+            self.assertIn(name, vars(desk.Desk))
         for name in ["order", "kept", "form", "changes"]:
             self.assertIsInstance(vars(Sheet)[name], property)
         self.assertIsInstance(inspect.getattr_static(Form, "of"), classmethod)

@@ -78,11 +78,24 @@ STAGE_7 = """
 """
 STAGE_8 = """
 >>> from keptlast.sheets import Sheet
+>>> from keptlast.gains import gains, hangs_on
 >>> sheet = Sheet(bill, {"rate": Amount(1, 5), "net": 100})
 >>> [str(sheet["tax"]), str(sheet["gross"]), sheet.edit("gross", 240), str(sheet["tax"]), str(sheet["rate"])]
 ['20', '120', ('rate',), '140', '7/5']
 >>> [sheet.changes, sheet.table()[0], sheet.table()[1]]
 [1, 'gross    *          240', 'rate                7/5']
+>>> [sheet.kept, sheet.order, hangs_on(bill, ["gross"], "rate")]
+[('net', 'gross'), ('gross', 'rate', 'net', 'tax'), ('net', 'gross')]
+>>> gains(Form(["net", "tax", "gross"], {"sum": adding}), [])
+{'gross': (Amount(0, 1), {'net': Amount(1, 1), 'tax': Amount(1, 1)})}
+"""
+STAGE_9 = """
+>>> from keptlast.judge import certificate_of, is_certificate
+>>> from keptlast.desk import Desk
+>>> [certificate_of(("cannot stay", bill, ["rate", "gross"])), is_certificate(("unlike", pair, three), [])]
+[('share', 'sum'), True]
+>>> Desk(sheet).do_all("show rate", "set rate = 1/4", "plan", "stay rate gross", "last", "undo", "kept")
+['7/5', 'out gross', 'share tax, sum gross', 'no share sum', '1', 'undone', 'kept net gross']
 """
 
 
@@ -105,8 +118,8 @@ class TestExamples(Case):
     def test_stages_4_to_6(self):
         self.assert_examples(STAGE_1 + STAGE_2 + STAGE_3 + STAGE_4 + STAGE_5 + STAGE_6, 32)
 
-    def test_stages_7_and_8(self):
-        self.assert_examples(STAGE_1 + STAGE_2 + STAGE_3 + STAGE_4 + STAGE_5 + STAGE_6 + STAGE_7 + STAGE_8, 39)
+    def test_stages_7_to_9(self):
+        self.assert_examples(STAGE_1 + STAGE_2 + STAGE_3 + STAGE_4 + STAGE_5 + STAGE_6 + STAGE_7 + STAGE_8 + STAGE_9, 46)
 
     def test_words_of_the_overview(self):
         bill = Form(["rate", "net", "tax", "gross"], {
@@ -120,7 +133,7 @@ class TestExamples(Case):
                          [("gross",), ("rate", "tax")])
 
     def test_readme(self):
-        self.assert_examples(README.read_text(encoding="utf-8"), 46)
+        self.assert_examples(README.read_text(encoding="utf-8"), 59)
 
     def test_texts_of_point_13(self):
         adding = Total({"net": 1, "tax": 1, "gross": -1})

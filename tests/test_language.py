@@ -268,7 +268,8 @@ class TestLanguage(unittest.TestCase):
 
     def test_attributes_are_assigned_by_changing_methods_only(self):
         changing = {"Draft": ["__init__", "undo", "copy", "_go_on"], "Trial": ["__init__", "__enter__", "__exit__"],
-                    "Sheet": ["__init__", "set_form", "edit", "edit_all", "undo", "copy", "tried"]}
+                    "Sheet": ["__init__", "set_form", "edit", "edit_all", "undo", "copy", "tried"],
+                    "Desk": ["__init__", "do", "do_all"]}
         for _, tree in trees():
             for cls in tree.body:
                 for node in ast.walk(cls):
