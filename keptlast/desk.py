@@ -108,5 +108,5 @@ def _answer(sheet, words):
 
 
 def _listed(word, names):
-    """A word and names behind it, or a line for none."""
+    """A word and the names behind it, or a dash if there is none."""
     return " ".join([word, *names]) if len(names) > 0 else f"{word} -"

@@ -309,6 +309,42 @@ class TestLanguage(unittest.TestCase):
                             for part in inner.generators:
                                 self.assertNotIn(ast.unparse(part.target), targets, f"{path.name}:{inner.lineno}")
 
+    def test_nested_comprehensions_do_not_use_names_of_their_function(self):
+        for path, tree in trees():
+            for function in functions_of(tree):
+                found = [node for node in ast.walk(function) if isinstance(node, COMPREHENSIONS)]
+                targets = {name for node in found for part in node.generators for name in ast.walk(part.target)}
+                assigned = {name.id for name in ast.walk(function) if isinstance(name, ast.Name)
+                            and isinstance(name.ctx, ast.Store) and name not in targets} | set(parameters_of(function))
+                for outer in found:
+                    for inner in ast.walk(outer):
+                        if isinstance(inner, COMPREHENSIONS) and inner is not outer:
+                            names = {name.id for part in inner.generators for name in ast.walk(part.target) if isinstance(name, ast.Name)}
+                            self.assertFalse(names & assigned, f"{path.name}:{inner.lineno}")
+
+    def test_what_is_iterated_on_the_spot_is_not_kept(self):
+        barred = {"zip", "enumerate", "reversed", "range", "items", "keys", "values", "map", "iter", "set", "frozenset"}
+        for at, node in self.each_node(ast.Assign, ast.Return):
+            if isinstance(node.value, ast.Call):
+                self.assertNotIn(ast.unparse(node.value.func).rpartition(".")[2], barred, at)
+
+    def test_an_underscore_is_not_read(self):
+        for at, node in self.each_node(ast.Name):
+            self.assertFalse(node.id == "_" and isinstance(node.ctx, ast.Load), at)
+
+    def test_a_finally_only_puts_back(self):
+        for at, node in self.each_node(ast.Try):
+            for row in node.finalbody:
+                self.assertRegex(ast.unparse(row), r"\Aself\._[a-z]+ = [a-z]+\Z", at)
+
+    def test_words_that_do_not_occur_in_strings(self):
+        for path, tree in trees():
+            docstrings = [node.body[0].value for node in ast.walk(tree) if isinstance(node, (ast.Module, ast.ClassDef, ast.FunctionDef))
+                          and isinstance(node.body[0], ast.Expr)]
+            for node in ast.walk(tree):
+                if isinstance(node, ast.Constant) and isinstance(node.value, str) and node not in docstrings:
+                    self.assertFalse(WORDS_NOT_USED & set(node.value.replace(".", " ").split()), f"{path.name}:{node.lineno}")
+
     def test_words_that_do_not_occur(self):
         for at, node in self.each_node(ast.Name, ast.Attribute, ast.FunctionDef, ast.ClassDef, ast.arg, ast.keyword):
             name = next(getattr(node, part) for part in ("name", "arg", "id", "attr") if hasattr(node, part))

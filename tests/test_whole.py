@@ -2,14 +2,19 @@
 
 import copy
 import inspect
+import random
+from itertools import permutations
 
 from keptlast import clashes, exchange, gains, judge, known, pairs, peels, rows, texts, webs
 from keptlast.amounts import Amount
 from keptlast.desk import Desk
 from keptlast.drafts import Draft
+from keptlast.errors import Never, Refused
 from keptlast.forms import Form, private, rule_sets
 from keptlast.rules import Loose, Rule, Total
 from keptlast.sheets import Sheet
+from models import any_forms, any_pairs, any_rows, model_of
+from papers import any_number, beginnings, told as told_by
 from support import Case
 from test_forms import ADDING, BILL, FIELDS, SHARING
 from test_texts import BILL_TEXT
@@ -158,3 +163,66 @@ class TestWholeProgram(Case):
                 with self.subTest(action=action):
                     self.assert_same(told(found), before)
                     self.assert_same(told(action(*held)), before)
+
+
+class TestGuarantees(Case):
+    def test_can_or_cannot(self):
+        for form in any_forms(60, 151, 6, 4):
+            for lot in model_of(form).lots():
+                plan, bar = peels.plan_paper(form, lot), peels.bar_paper(form, lot)
+                self.assert_same([plan is None, bar is None], [not peels.can_stay(form, lot), peels.can_stay(form, lot)])
+                self.assert_same([peels.is_plan_paper(form, lot, plan), peels.is_bar_paper(form, lot, bar)], [bar is None, plan is None])
+
+    def test_one_plan(self):
+        chance = random.Random(152)
+        for form in any_forms(80, 153, 6, 4):
+            model = model_of(form)
+            for row in any_rows(model, chance, 4):
+                fitting = [plan for plan in model.plans if not set(plan.values()) & set(rows.kept(form, row))]
+                self.assert_same(fitting, [rows.plan_behind(form, row)])
+
+    def test_alike(self):
+        found = set()
+        for one, other in any_pairs(150, 154, 4, 3):
+            alike = all(one(row) == other(row) for row in permutations(one.fields))
+            self.assert_same([pairs.are_alike(one, other), list(clashes.clashes(one)) == list(clashes.clashes(other))], [alike] * 2)
+            found.add(alike)
+        self.assertEqual(found, {True, False})
+
+    def test_last(self):
+        for form in any_forms(80, 155, 5, 4):
+            many = exchange.sure_last(form)
+            self.assertTrue(all(set(row) <= set(form(row)) for row in permutations(form.fields, many)))
+            if many < len(form.fields):
+                self.assertFalse(all(set(row) <= set(form(row)) for row in permutations(form.fields, many + 1)))
+
+    def test_true(self):
+        chance = random.Random(156)
+        for form, numbers in beginnings(60, 157):
+            made = Sheet(form, numbers)
+            for _ in range(8):
+                before = made.numbers()
+                field, number = chance.choice(form.fields), any_number(chance)
+                try:
+                    made.edit(field, number)
+                except (Never, Refused):
+                    self.assert_same(made.numbers(), before)
+                    continue
+                self.assertTrue(all(form[name].is_true(made.numbers()) for name in form.names()))
+                for kept in made.kept:
+                    self.assert_same(made[kept], Amount.of(number) if kept == field else before[kept])
+            twin = texts.read_form(texts.form_text(made.form))
+            made.form = twin
+            self.assert_same(told_by(made)[:2], [form.fields, form.rules()])
+
+    def test_checked(self):
+        chance = random.Random(158)
+        for one, other in any_pairs(60, 159, 5, 3):
+            row = chance.choices(one.fields, k=4)
+            self.assert_same(rows.is_row_paper(one, row, rows.row_paper(one, row)), True)
+            for kind in judge.KINDS:
+                parts = {"can stay": [row[:1]], "cannot stay": [row[:1]], "kept": [row, one(row)], "two out": [], "last": [1], "not last": [1],
+                         "sure": [[], row[0]], "not sure": [[], row[0]]}.get(kind, [other])
+                claim = (kind, one, *parts)
+                found = judge.certificate_of(claim)
+                self.assert_same(judge.is_certificate(claim, found), found is not None)
